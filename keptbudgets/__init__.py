@@ -1,0 +1,1 @@
+"""Keptbudgets: which budgets of errors a guesser can keep."""

@@ -1,0 +1,39 @@
+"""Fractions of two integers."""
+
+from math import gcd
+
+from keptbudgets.errors import InvalidNumber
+
+
+class Share:
+    """The fraction over / under, in lowest terms, with under above 0."""
+
+    def __init__(self, over, under):
+        if under == 0:
+            raise InvalidNumber(under)
+        common = gcd(over, under)
+        if under < 0:
+            common = -common
+        self.over = over // common
+        self.under = under // common
+
+    def __add__(self, other):
+        return Share(self.over * other.under + other.over * self.under, self.under * other.under)
+
+    def __sub__(self, other):
+        return Share(self.over * other.under - other.over * self.under, self.under * other.under)
+
+    def __mul__(self, other):
+        return Share(self.over * other.over, self.under * other.under)
+
+    def __eq__(self, other):
+        return isinstance(other, Share) and self.over == other.over and self.under == other.under
+
+    def is_below(self, other):
+        """Whether this share is less than the other one."""
+        return self.over * other.under < other.over * self.under
+
+
+def half_of(length):
+    """The share 1 / 2 ** length."""
+    return Share(1, 1 << length)

@@ -1,0 +1,175 @@
+"""What several tests share: wrong values, and looks at arguments before and behind a call."""
+
+import copy
+import itertools
+
+from keptbudgets.errors import InvalidNumber, NoProgram
+
+
+def nested(inner, deep, kind):
+    """inner within so many tuples or lists of one."""
+    for _ in range(deep):
+        inner = kind([inner])
+    return inner
+
+
+def any_values():
+    """Values of every kind that point [2] lets an argument be."""
+    return [
+        None, True, False, -1, 0, 1, 2, 3, 24, 200, 201, 10 ** 399, -(10 ** 399),
+        "", "0", "1", "01", "000", "2", "a", " ", "0 1", "01\n", "\n", "\x00", "\u0660\u0661", "[", ".", "0a" * 200,
+        "(", "0" * 400, "1" * 399 + "x",
+        (), [], (None,), [None], ((),), [[]], (True,), [False], (0,), [1], (1, 1), ("0", "1"), ["0", "a"],
+        ("", None), (("0", "1"), ["1"]), [("0", [], None), 1], (10 ** 399,), [-(10 ** 399)],
+        nested("0", 10, tuple), nested(1, 10, list), nested(None, 9, tuple),
+        tuple([None] * 200), ["2"] * 200, [0] * 200,
+    ]
+
+
+def parts_replaced(value, others):
+    """The value, at each place in it, with that part replaced by each of the others."""
+    for other in others:
+        yield copy.deepcopy(other)
+    if isinstance(value, (tuple, list)):
+        for place in range(len(value)):
+            for part in parts_replaced(value[place], others):
+                parts = list(value)
+                parts[place] = part
+                yield type(value)(parts)
+
+
+def seen_as(value):
+    """What a value looks like, kinds of sequences and of integers included."""
+    return repr(value)
+
+
+def as_lists(value):
+    """The value with all tuples in it made lists."""
+    return [as_lists(part) for part in value] if isinstance(value, (tuple, list)) else value
+
+
+def raised(test, error, call, *given, **named):
+    """The error of exactly this class that a call raises; what was passed stays as it was."""
+    before = seen_as((given, named))
+    with test.assertRaises(error) as caught:
+        call(*given, **named)
+    test.assertIs(type(caught.exception), error)
+    test.assertEqual(seen_as((given, named)), before)
+    return caught.exception
+
+
+def is_int(value):
+    return type(value) is int
+
+
+def is_bits(value):
+    return type(value) is str and set(value) <= {"0", "1"}
+
+
+def told_of(signs):
+    """What steps return, told by a sign each: N stands for None, E for "end", 0 and 1 for the bit."""
+    return [{"N": None, "E": "end", "0": 0, "1": 1}[sign] for sign in signs]
+
+
+def check_run(test, begin, expected):
+    """Goes through a run by step() and by go(many); expected: what its first steps return.
+
+    begin() gives a new run each time. The run is as long as expected if that ends with "end".
+    """
+    run = begin()
+    check_stand(test, run, [])
+    for done, answer in enumerate(expected, 1):
+        told = run.step()
+        test.assertEqual(told, answer)
+        test.assertIs(type(told), type(answer))
+        check_stand(test, run, expected[:done])
+    for many in (1, 2, 7):
+        other = begin()
+        test.assertEqual(other.go(0), 0)
+        for done in range(0, len(expected), many):
+            check_stand(test, other, expected[:done])
+            test.assertEqual(other.go(many=min(many, len(expected) - done)), min(many, len(expected) - done))
+        check_stand(test, other, expected)
+    if expected[-1:] == ["end"]:
+        whole = begin()
+        test.assertEqual(whole.go(10 ** 399), len(expected))
+        check_ended(test, whole, expected)
+        check_ended(test, run, expected)
+
+
+def check_by_turns(test, taken, turns):
+    """Takes runs on by turns, by step() and go(many); taken: pairs of all that a run's steps return, and the run."""
+    for turn in range(turns):
+        for k, (expected, run) in enumerate(taken):
+            before = run.steps
+            if (turn + k) % 3 == 0:
+                many = (turn * 5 + k) % 9
+                test.assertEqual(run.go(many), min(many, len(expected) - before))
+            else:
+                test.assertEqual(run.step(), expected[before] if before < len(expected) else "end")
+            check_stand(test, run, expected[:run.steps])
+
+
+def check_whole(test, run, expected):
+    """Takes a run on by 10000 steps at once; expected: what these return, fewer if it ends."""
+    test.assertEqual(run.go(many=10000), len(expected))
+    check_stand(test, run, expected)
+
+
+def check_stand(test, run, told):
+    """What a run is like behind steps that returned this."""
+    written = "".join(str(answer) for answer in told if is_int(answer))
+    test.assertEqual((run.steps, run.written), (len(told), written))
+    test.assertIs(run.is_ended, told[-1:] == ["end"])
+
+
+def check_ended(test, run, told):
+    """A run that has ended stays as it is."""
+    for _ in range(3):
+        test.assertEqual(run.step(), "end")
+        test.assertEqual(run.go(5), 0)
+        test.assertEqual(run.go(many=0), 0)
+        check_stand(test, run, told)
+
+
+def check_wrong_many(test, run, told):
+    """go refuses what is no number, and changes nothing by it."""
+    for value in any_values():
+        if not (is_int(value) and value >= 0):
+            test.assertIs(raised(test, InvalidNumber, run.go, value).number, value)
+            test.assertIs(raised(test, InvalidNumber, run.go, many=value).number, value)
+            check_stand(test, run, told)
+
+
+def check_wrong_many_on_the_way(test, run, expected):
+    """The same at the beginning, on the way, and behind the end, with which expected ends."""
+    for many in (0, 1, 2, len(expected)):
+        run.go(many)
+        check_wrong_many(test, run, expected[:run.steps])
+    check_ended(test, run, expected)
+
+
+def check_is_program(test, language, values, programs):
+    """is_program and begin for any values, of which just these are programs."""
+    for value in values:
+        expected = isinstance(value, str) and value in programs
+        test.assertIs(language.is_program(value), expected)
+        test.assertIs(language.is_program(program=value), expected)
+        if expected:
+            check_stand(test, language.begin(value, ""), [])
+        else:
+            test.assertIs(raised(test, NoProgram, language.begin, value, "").program, value)
+            test.assertIs(raised(test, NoProgram, language.begin, program=value, given="1").program, value)
+
+
+def check_programs(test, language, programs_of, longest):
+    """programs(length) up to longest, and is_program for all words up to 12 bits."""
+    for length in range(longest + 1):
+        programs = programs_of(length)
+        found = language.programs(length)
+        test.assertIs(type(found), tuple)
+        test.assertEqual(found, tuple(sorted(programs)))
+        test.assertEqual(language.programs(length=length), found)
+        if length <= 12:
+            for row in itertools.product("01", repeat=length):
+                test.assertIs(language.is_program("".join(row)), "".join(row) in programs)
