@@ -1,8 +1,8 @@
 """Words none of which begins another."""
 
 from keptbudgets.errors import InvalidWords, TooFull
-from keptbudgets.kinds import is_number, is_sequence
-from keptbudgets.shares import Share, half_of
+from keptbudgets.kinds import are_numbers, is_sequence
+from keptbudgets.shares import sum_of_halves
 
 
 def is_word(value):
@@ -23,22 +23,19 @@ def first_clash(words):
 def share_of(words):
     """The sum of 1 / 2 ** length over the words."""
     _check_words(words)
-    total = Share(0, 1)
-    for word in words:
-        total = total + half_of(len(word))
-    return total
+    return sum_of_halves([len(word) for word in words])
 
 
 def code_of(lengths):
     """For each length a word of it, none beginning another, each the first that is left."""
-    if not _is_row_of_numbers(lengths) or not _is_room_for(sorted(lengths)):
+    if not are_numbers(lengths) or not _is_room_for(sorted(lengths)):
         raise TooFull(lengths)
     words = [""] * len(lengths)
     value = 0
     before = 0
     for length, place in sorted([(length, place) for place, length in enumerate(lengths)]):
         value = value << (length - before)
-        words[place] = _word_of(value, length)
+        words[place] = word_of(value, length)
         # All words of lower values are begun by earlier ones: the next value is the first left.
         value = value + 1
         before = length
@@ -53,13 +50,16 @@ def split(words, text):
     return None
 
 
+def word_of(value, length):
+    """The word of this length that has this value."""
+    # The 1 ahead keeps the zeros at the beginning, and gives the empty word for length 0.
+    marked = f"{(1 << length) + value:b}"
+    return marked[1:]
+
+
 def _check_words(words):
     if not is_sequence(words) or not all([is_word(word) for word in words]):
         raise InvalidWords(words)
-
-
-def _is_row_of_numbers(value):
-    return is_sequence(value) and all([is_number(part) for part in value])
 
 
 def _is_room_for(ascending):
@@ -73,9 +73,3 @@ def _is_room_for(ascending):
         free = (free << (length - depth)) - 1
         depth = length
     return True
-
-
-def _word_of(value, length):
-    # The 1 ahead keeps the zeros at the beginning, and gives the empty word for length 0.
-    marked = f"{(1 << length) + value:b}"
-    return marked[1:]

@@ -19,3 +19,8 @@ def is_bit(value):
 def is_sequence(value):
     """Whether it is a tuple or a list."""
     return isinstance(value, (tuple, list))
+
+
+def are_numbers(value):
+    """Whether it is a sequence of numbers, perhaps of none."""
+    return is_sequence(value) and all([is_number(part) for part in value])

@@ -13,3 +13,11 @@ def go_on(run, many):
         run.step()
         done = done + 1
     return done
+
+
+def bit_within(run, place, steps):
+    """The bit number place of a run, if it has written it by so many steps from its beginning;
+    otherwise None. The run is taken on as far as that needs, and no further."""
+    while len(run.written) <= place and run.steps < steps and not run.is_ended:
+        run.step()
+    return int(run.written[place]) if len(run.written) > place else None

@@ -37,3 +37,10 @@ class Share:
 def half_of(length):
     """The share 1 / 2 ** length."""
     return Share(1, 1 << length)
+
+
+def sum_of_halves(lengths):
+    """The share that is the sum of 1 / 2 ** length over the lengths."""
+    longest = max(lengths, default=0)
+    over = sum([1 << (longest - length) for length in lengths])
+    return Share(over, 1 << longest)

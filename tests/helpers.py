@@ -2,8 +2,10 @@
 
 import copy
 import itertools
+from fractions import Fraction
 
 from keptbudgets.errors import InvalidNumber, NoProgram
+from keptbudgets.shares import Share
 
 
 def nested(inner, deep, kind):
@@ -173,3 +175,70 @@ def check_programs(test, language, programs_of, longest):
         if length <= 12:
             for row in itertools.product("01", repeat=length):
                 test.assertIs(language.is_program("".join(row)), "".join(row) in programs)
+
+
+def are_rows(value):
+    """Whether it is rows, as point [15] tells."""
+    return (isinstance(value, (tuple, list)) and len(value) > 0 and all(is_bits(part) for part in value)
+            and len(set(map(len, value))) == 1)
+
+
+def are_numbers(value):
+    return isinstance(value, (tuple, list)) and all(is_int(part) and part >= 0 for part in value)
+
+
+def all_words(length):
+    """All words of this length, ascending."""
+    return ["".join(row) for row in itertools.product("01", repeat=length)]
+
+
+def words_up_to(longest):
+    return [word for length in range(longest + 1) for word in all_words(length)]
+
+
+def wrong_values(good, is_fine):
+    """Any values, and the good ones with a part replaced by any value, as far as they are not fine."""
+    tried = any_values()
+    for value in good:
+        tried.extend(parts_replaced(value, any_values()))
+    return [value for value in tried if not is_fine(value)]
+
+
+def check_refused(test, error, call, given, name, values):
+    """call(**given) refuses each of these values under this name, by place and by name."""
+    attribute = {"InvalidNumber": "number", "InvalidBudgets": "budgets", "InvalidRows": "rows",
+                 "NoProgram": "program"}[error.__name__]
+    test.assertGreater(len(values), 30)
+    for value in values:
+        named = {**given, name: value}
+        test.assertIs(getattr(raised(test, error, call, **named), attribute), value)
+        flips = {key: named.pop(key) for key in ("flips",) if key in named and call.__name__ != "ChipKeeper"}
+        test.assertIs(getattr(raised(test, error, call, *named.values(), **flips), attribute), value)
+
+
+def check_wrong_bits(test, guesser, call):
+    """A call with a bit refuses all else, and what state_of tells of the object stays as it was."""
+    before = state_of(guesser)
+    for value in any_values() + [2, -1, True, False, "0", "1", (0,), [1], None]:
+        if not (is_int(value) and value in (0, 1)):
+            test.assertIs(raised(test, InvalidNumber, call, value).number, value)
+            test.assertIs(raised(test, InvalidNumber, call, bit=value).number, value)
+            test.assertEqual(state_of(guesser), before)
+
+
+def state_of(guesser):
+    """All that a guesser or a Breaker tells of itself without being told anything."""
+    state = [getattr(guesser, name) for name in ("seen", "errors", "row", "broken") if hasattr(guesser, name)]
+    for name in ("living", "weight"):
+        if hasattr(guesser, name):
+            told = getattr(guesser, name)()
+            state.append(told if name == "living" else (told.over, told.under))
+    return state
+
+
+def as_fraction(test, share):
+    """The fraction that a Share tells, which is in lowest terms."""
+    test.assertIs(type(share), Share)
+    fraction = Fraction(share.over, share.under)
+    test.assertEqual((share.over, share.under), (fraction.numerator, fraction.denominator))
+    return fraction

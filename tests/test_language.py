@@ -86,9 +86,10 @@ class WordsTest(unittest.TestCase):
                                 isinstance(part.value, ast.Constant), (path.name, part.lineno))
 
     def test_builtins_that_are_called(self):
+        known = BUILTINS | {name for tree in map(tree_of, FILES) for name in bound_in(tree)}
+        known |= {name for names in LIBRARY.values() for name in names}
         for path, node in nodes(ast.Call):
             if isinstance(node.func, ast.Name):
-                known = BUILTINS | {name for tree in map(tree_of, FILES) for name in bound_in(tree)} | {"gcd"}
                 self.assertIn(node.func.id, known, (path.name, node.lineno))
 
     def test_methods_that_are_called(self):
@@ -117,6 +118,28 @@ class WordsTest(unittest.TestCase):
             made = isinstance(node, (ast.arg, ast.ClassDef)) or isinstance(getattr(node, "ctx", None), ast.Store)
             if made and not isinstance(node, ast.Attribute):
                 self.assertNotIn(name, builtins, path.name)
+
+    def test_no_name_is_a_method_and_an_attribute_in_one_class(self):
+        for path, node in nodes(ast.ClassDef):
+            methods = {part.name for part in node.body if isinstance(part, ast.FunctionDef)}
+            stored = {part.attr for part in ast.walk(node) if isinstance(part, ast.Attribute)
+                      and isinstance(part.ctx, ast.Store) and getattr(part.value, "id", None) == "self"}
+            self.assertEqual(methods & stored, set(), (path.name, node.name))
+
+    def test_attributes_that_are_read_are_assigned_or_methods(self):
+        known = {node.name for _, node in nodes(ast.FunctionDef)} | METHODS
+        known |= {part.targets[0].id for _, node in nodes(ast.ClassDef) for part in node.body
+                  if isinstance(part, ast.Assign)}
+        known |= {node.attr for _, node in nodes(ast.Attribute) if isinstance(node.ctx, ast.Store)}
+        for path, node in nodes(ast.Attribute):
+            self.assertIn(node.attr, known, (path.name, node.lineno))
+
+    def test_is_stands_beside_none_true_and_false_only(self):
+        for path, node in nodes(ast.Compare):
+            for sign, value in zip(node.ops, node.comparators):
+                if isinstance(sign, (ast.Is, ast.IsNot)):
+                    self.assertIsInstance(value, ast.Constant, (path.name, node.lineno))
+                    self.assertIn(value.value, (None, True, False))
 
     def test_no_local_name_is_a_class_or_an_import_of_its_file(self):
         for path in FILES:
