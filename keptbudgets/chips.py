@@ -4,7 +4,7 @@ from math import comb
 
 from keptbudgets.checks import check_budgets_of, check_rows
 from keptbudgets.hearing import hear
-from keptbudgets.shares import Share, half_of
+from keptbudgets.shares import Share, half_of, sum_of_shares
 from keptbudgets.writers import Writers
 
 
@@ -54,10 +54,7 @@ class ChipKeeper:
 
 
 def _sum_of_weights(pairs):
-    total = Share(0, 1)
-    for budget, flips in pairs:
-        total = total + _weight_of(budget, flips)
-    return total
+    return sum_of_shares([_weight_of(budget, flips) for budget, flips in pairs])
 
 
 def _weight_of(budget, flips):

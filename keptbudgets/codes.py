@@ -57,6 +57,16 @@ def word_of(value, length):
     return marked[1:]
 
 
+def value_of(word):
+    """The number that a word writes in base two."""
+    return int("0" + word, 2)
+
+
+def words_of(length):
+    """All words of this length, ascending."""
+    return tuple([word_of(value, length) for value in range(1 << length)])
+
+
 def _check_words(words):
     if not is_sequence(words) or not all([is_word(word) for word in words]):
         raise InvalidWords(words)

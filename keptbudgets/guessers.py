@@ -1,7 +1,7 @@
 """Guessers by the programs of a language."""
 
 from keptbudgets.hearing import hear
-from keptbudgets.runs import bit_within
+from keptbudgets.runs import bit_within, programs_up_to
 from keptbudgets.shares import sum_of_halves
 
 
@@ -12,7 +12,7 @@ class Guesser:
         self.seen = ""
         self.errors = 0
         self._patience = patience
-        self._living = [(program, language.begin(program, "")) for program in _programs_up_to(language, most)]
+        self._living = [(program, language.begin(program, "")) for program in programs_up_to(language, most)]
         # The next bits of the living programs; None as long as nobody asked for them.
         self._ahead = None
 
@@ -55,7 +55,7 @@ class Forgiving:
         self.seen = ""
         self.errors = 0
         self._patience = patience
-        programs = _programs_up_to(language, most)
+        programs = programs_up_to(language, most)
         self._runs = [language.begin(program, "") for program in programs]
         # The weight of each program is 1 / 2 ** this.
         self._halvings = [len(program) for program in programs]
@@ -91,14 +91,6 @@ def errors_of(language, program, patience, row):
 def _patient_bit(run, place, patience):
     """The bit at this place, if the run writes it within patience steps for each place up to it."""
     return bit_within(run, place, (place + 1) * patience)
-
-
-def _programs_up_to(language, most):
-    """All programs of at most so many bits, ascending."""
-    found = []
-    for length in range(most + 1):
-        found.extend(language.programs(length))
-    return found
 
 
 def _weights_by_bit(halvings, bits):

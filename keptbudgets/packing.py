@@ -1,6 +1,6 @@
 """Rows packed by the programs of a language that write them."""
 
-from keptbudgets.codes import word_of
+from keptbudgets.codes import value_of, word_of
 from keptbudgets.guessers import Guesser
 from keptbudgets.shares import Share, half_of
 
@@ -24,12 +24,17 @@ def pack(language, most, patience, row):
 def unpack(language, most, patience, many, text):
     """The row of so many bits whose packed word begins the text, and the rest of the text."""
     path = Path(language, most, patience)
-    point = Share(int("0" + text, 2), 1) * half_of(len(text))
+    point = point_of(text)
     for _ in range(many):
         middle = path.low + path.chance_with_zero()
         path.go(0 if point.is_below(middle) else 1)
     packed = word_within(path.low, path.chance())
     return (path.row, text[len(packed):])
+
+
+def point_of(text):
+    """Where the stretch of a word begins."""
+    return Share(value_of(text), 1) * half_of(len(text))
 
 
 def word_within(low, chance):

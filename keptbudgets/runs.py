@@ -1,4 +1,4 @@
-"""What the runs of all languages have in common."""
+"""What the programs and runs of all languages have in common."""
 
 from keptbudgets.errors import InvalidNumber
 from keptbudgets.kinds import is_number
@@ -21,3 +21,11 @@ def bit_within(run, place, steps):
     while len(run.written) <= place and run.steps < steps and not run.is_ended:
         run.step()
     return int(run.written[place]) if len(run.written) > place else None
+
+
+def programs_up_to(language, most):
+    """All programs of at most so many bits, ascending."""
+    found = []
+    for length in range(most + 1):
+        found.extend(language.programs(length))
+    return found

@@ -1,6 +1,6 @@
 """Fractions of two integers."""
 
-from math import gcd
+from math import gcd, lcm
 
 from keptbudgets.errors import InvalidNumber
 
@@ -44,3 +44,21 @@ def sum_of_halves(lengths):
     longest = max(lengths, default=0)
     over = sum([1 << (longest - length) for length in lengths])
     return Share(over, 1 << longest)
+
+
+def sum_of_shares(shares):
+    """The sum of shares; that of none is 0."""
+    # One lower part for all: to bring each sum on the way into lowest terms would take long.
+    under = 1
+    for share in shares:
+        under = lcm(under, share.under)
+    return Share(sum([share.over * (under // share.under) for share in shares]), under)
+
+
+def greatest_of(shares):
+    """The greatest of at least one share."""
+    greatest = shares[0]
+    for share in shares:
+        if greatest.is_below(share):
+            greatest = share
+    return greatest

@@ -40,9 +40,33 @@ def parts_replaced(value, others):
                 yield type(value)(parts)
 
 
+def opened(value):
+    """The value with all objects of the package in it told by what they hold; a Fraction stands for a Share."""
+    if isinstance(value, (tuple, list)):
+        return type(value)([opened(part) for part in value])
+    if isinstance(value, dict):
+        return {key: opened(part) for key, part in value.items()}
+    if isinstance(value, Fraction):
+        return ("Share", opened({"over": value.numerator, "under": value.denominator}))
+    if type(value).__module__.startswith("keptbudgets"):
+        return (type(value).__name__, opened(vars(value)))
+    # Python does not write integers of some thousand digits in base ten.
+    return hex(value) if is_int(value) and abs(value) > 10 ** 500 else value
+
+
 def seen_as(value):
     """What a value looks like, kinds of sequences and of integers included."""
-    return repr(value)
+    return repr(opened(value))
+
+
+def check_calls(test, call, named, expected, by_name=()):
+    """A call by place and by name, with tuples and with lists, returns this and leaves alone what was passed."""
+    for values in (named, {name: as_lists(value) for name, value in named.items()}):
+        before = seen_as(values)
+        by_place = [value for name, value in values.items() if name not in by_name]
+        test.assertEqual(seen_as(call(*by_place, **{name: values[name] for name in by_name})), seen_as(expected))
+        test.assertEqual(seen_as(call(**values)), seen_as(expected))
+        test.assertEqual(seen_as(values), before)
 
 
 def as_lists(value):
@@ -242,3 +266,8 @@ def as_fraction(test, share):
     fraction = Fraction(share.over, share.under)
     test.assertEqual((share.over, share.under), (fraction.numerator, fraction.denominator))
     return fraction
+
+
+def as_share(fraction):
+    """The Share that a Fraction tells."""
+    return Share(fraction.numerator, fraction.denominator)

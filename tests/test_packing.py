@@ -6,10 +6,9 @@ from keptbudgets.packing import chance_of, low_of, pack, unpack
 from keptbudgets.shares import Share
 from keptbudgets.tables import Table
 from guessers_told import chance_of as chance_told, living, rows_on_time, rows_to_try
-from helpers import all_words, as_fraction, is_bits, words_up_to
+from helpers import all_words, as_fraction, words_up_to
 from languages import EMPTY, NONE, QUICK, SLOW, SOME, at_the_sizes, made
-
-RESTS = ("", "0", "1", "10", "0" * 40, "1" * 40, "01" * 20)
+from packed_told import RESTS, check_packed
 
 
 def low_told(told, most, patience, row):
@@ -23,20 +22,6 @@ def low_by_places(told, most, patience, row):
     return sum((chance_told(told, most, patience, row[:place] + "0") for place in places), Fraction(0))
 
 
-def stretch_of(word):
-    first = Fraction(int("0" + word, 2), 2 ** len(word))
-    return first, first + Fraction(1, 2 ** len(word))
-
-
-def packed_told(low, chance):
-    """The first word, going through all of them up to 9 bits; None if it is longer."""
-    for word in words_up_to(9):
-        first, last = stretch_of(word)
-        if low <= first and last <= low + chance:
-            return word
-    return None
-
-
 class PackingTest(unittest.TestCase):
     def check(self, told, most, patience, row, low):
         language = made(told)
@@ -44,15 +29,7 @@ class PackingTest(unittest.TestCase):
         self.assertEqual(as_fraction(self, chance_of(language, most, patience, row)), chance)
         self.assertEqual(as_fraction(self, low_of(language, most, patience, row)), low)
         packed = pack(language, most, patience, row)
-        self.assertTrue(is_bits(packed))
-        first, last = stretch_of(packed)
-        self.assertTrue(low <= first and last <= low + chance)
-        expected = packed_told(low, chance)
-        if expected is None:
-            self.assertGreater(len(packed), 9)
-            self.check_is_first(packed, low, chance)
-        else:
-            self.assertEqual(packed, expected)
+        check_packed(self, packed, low, chance)
         self.assertLessEqual(len(packed), len(row) + 2)
         for program in living(told, most, patience, row)[:1]:
             self.assertLessEqual(len(packed), len(program) + 2)
@@ -61,14 +38,6 @@ class PackingTest(unittest.TestCase):
             found = unpack(language, most, patience, len(row), packed + rest)
             self.assertEqual((found, type(found)), ((row, rest), tuple))
         return packed
-
-    def check_is_first(self, packed, low, chance):
-        """No word of the same length before it, and no shorter one, has its stretch there."""
-        first, last = stretch_of(packed)
-        self.assertLess(first - Fraction(1, 2 ** len(packed)), low)
-        for length in range(len(packed)):
-            value = -(-low.numerator * 2 ** length // low.denominator)
-            self.assertGreater(Fraction(value + 1, 2 ** length), low + chance)
 
     def test_all_short_rows(self):
         for told in SOME:

@@ -1,39 +1,18 @@
 import itertools
 import random
 import unittest
-from fractions import Fraction
 
 from keptbudgets.errors import InvalidRows
 from keptbudgets.shares import Share
 from keptbudgets.sources import Source
 from helpers import all_words, any_values, as_lists, is_int, parts_replaced, raised, seen_as
-
-ROWS = ((1, 1, 2, 0), (0, 0, 5, 2), (3, 2, 3, 1))
-
-
-def chance_told(rows, word):
-    chance, state = Fraction(1), 0
-    for sign in word:
-        weights, following = rows[state][0::2], rows[state][1::2]
-        chance *= Fraction(weights[int(sign)], sum(weights))
-        state = following[int(sign)]
-    return chance
+from sources_told import ROWS, chance_told, drawn_rows
 
 
 def are_states(value):
     return isinstance(value, (tuple, list)) and len(value) > 0 and all(
         isinstance(row, (tuple, list)) and len(row) == 4 and all(is_int(part) and part >= 0 for part in row)
         and row[0] + row[2] > 0 and row[1] < len(value) and row[3] < len(value) for row in value)
-
-
-def drawn_rows(chance, states, most):
-    rows = []
-    for _ in range(states):
-        weights = (0, 0)
-        while weights == (0, 0):
-            weights = (chance.choice((0, 1, chance.randint(0, most))), chance.choice((0, 1, chance.randint(0, most))))
-        rows.append((weights[0], chance.randrange(states), weights[1], chance.randrange(states)))
-    return tuple(rows)
 
 
 class SourceTest(unittest.TestCase):
